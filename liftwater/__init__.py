@@ -1,0 +1,1 @@
+"""Liftwater: a stair of locks, where goods that go down lift the water."""
