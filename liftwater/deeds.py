@@ -19,10 +19,8 @@ def fault_of(stair, stand, deed):
     levels, chambers = stand
     if is_shut(chambers, deed):
         return SHUT, deed[1]
-    pound, more = change_of(stair, deed)
-    # A deed that adds is never dry: it may pour into the sea, which has no level to look at.
-    if more < 0 and levels[pound - 1] + more < stair[pound - 1][0]:
-        return DRY, pound
+    if is_dry(stair, levels, deed):
+        return DRY, deed[1]
     return None
 
 
@@ -53,6 +51,21 @@ def is_shut(chambers, deed):
     if word == FILL:
         return chambers[lock - 1] != LOW
     return word == EMPTY and chambers[lock - 1] != HIGH
+
+
+def is_dry(stair, levels, deed):
+    """Whether the deed would leave the pound that it asks below its least."""
+    asked = asked_by(stair, deed)
+    return asked is not None and levels[asked[0] - 1] < asked[1]
+
+
+def asked_by(stair, deed):
+    """The pair (pound, level): the deed asks that level of that pound; None where it asks nothing."""
+    pound, more = change_of(stair, deed)
+    # A deed that adds is never dry: it may pour into the sea, which has no level to look at.
+    if more >= 0:
+        return None
+    return pound, stair[pound - 1][0] - more
 
 
 def change_of(stair, deed):

@@ -86,6 +86,35 @@ class LanguageTest(unittest.TestCase):
                 if isinstance(node, ast.Name) and node.id not in bound:
                     self.assertIn(node.id, BUILTINS, f"{name}:{node.lineno}")
 
+    def test_no_local_name_is_that_of_an_import_or_a_class(self):
+        for name, text in sources().items():
+            tree = ast.parse(text)
+            outer = [alias.asname or alias.name for node in tree.body if isinstance(node, ast.ImportFrom)
+                     for alias in node.names]
+            outer += [node.name for node in tree.body if isinstance(node, (ast.ClassDef, ast.FunctionDef))]
+            self.assertEqual(len(outer), len(set(outer)), name)
+            for node in tree.body:
+                if isinstance(node, ast.FunctionDef):
+                    self.assertFalse(set(outer) & (names_bound(node) - {node.name}), f"{name}:{node.lineno}")
+
+    def test_iterated_at_once(self):
+        for where, node in nodes():
+            if isinstance(node, (ast.Assign, ast.Return)) and isinstance(node.value, ast.Call):
+                called = node.value.func
+                word = called.id if isinstance(called, ast.Name) else called.attr
+                self.assertNotIn(word, ("zip", "enumerate", "reversed", "range", "items", "keys", "values"), where)
+
+    def test_no_two_files_import_from_each_other(self):
+        known = {}
+        for name, text in sources().items():
+            known[name[:-3]] = [node.module.split(".")[1] for node in ast.parse(text).body
+                                if isinstance(node, ast.ImportFrom)]
+        placed = set()
+        while len(placed) < len(known):
+            ready = [name for name in known if name not in placed and set(known[name]) <= placed]
+            self.assertTrue(ready, f"{sorted(set(known) - placed)} import from each other")
+            placed.update(ready)
+
     def test_no_floats_division_or_percent(self):
         for where, node in nodes():
             self.assertNotIsInstance(node, (ast.Div, ast.Global, ast.AsyncFunctionDef), where)
