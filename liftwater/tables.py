@@ -76,7 +76,10 @@ def row_behind(rows, row):
 
 
 def power(table, many):
-    """So many of a table, from 1, one behind the other."""
+    """So many of a table, from 1, one behind the other; None of fewer."""
+    # No table leaves all totals as they are: its numbers would have no end.
+    if many < 1:
+        return None
     parts = doubles_in(doubles_of(table, many), many)
     whole = parts[0]
     for part in parts[1:]:

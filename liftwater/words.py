@@ -1,4 +1,4 @@
-"""The words that stand in stands, deeds and faults."""
+"""The words that stand in stands, deeds, faults and endings."""
 
 LOW = "low"
 HIGH = "high"
@@ -10,3 +10,4 @@ LOWER = "lower"
 
 SHUT = "shut"
 DRY = "dry"
+FOR_EVER = "for ever"

@@ -92,3 +92,35 @@ def some_case(chance, pounds=None, wide=6):
     stair = some_stair(chance, pounds, wide)
     stand = some_stand(chance, stair)
     return stair, stand, some_round(chance, stair, stand[1])
+
+
+def plain_ever(stair, levels, deeds):
+    """Whether a round goes for ever, gone through until it is dry or levels stand; for small numbers only."""
+    while plain_dry(stair, levels, deeds, 1) is None:
+        ahead, levels = tuple(levels), plain_deeds(stair, levels, deeds)[0]
+        if levels == ahead:
+            return True
+    return False
+
+
+def lasting_case(chance, wide=None):
+    """A case as some_case tells it, with a raise at the uppermost pound that often makes it go for ever."""
+    stair = some_stair(chance, wide=chance.choice([2, 6, 30, 100]) if wide is None else wide)
+    levels, chambers = some_stand(chance, stair)
+    if chance.random() < 0.5:
+        levels = tuple(pound[1] for pound in stair)
+    deeds = some_round(chance, stair, chambers, turns=chance.choice([0, 1, 2]))
+    if chance.random() < 0.6:
+        deeds.insert(chance.randint(0, len(deeds)), ("raise", len(stair), chance.randint(1, 15)))
+    return stair, (levels, chambers), deeds
+
+
+def far_case(chance):
+    """A case with great levels and small deeds, so that what ends it is far off."""
+    stair = tuple((chance.randint(0, 9), chance.randint(10 ** 17, 10 ** 20), chance.randint(1, 9))
+                  for at in range(chance.randint(1, 6)))
+    levels, chambers = some_stand(chance, stair)
+    deeds = some_round(chance, stair, chambers, turns=chance.choice([0, 1, 2]), weight=9)
+    if chance.random() < 0.6:
+        deeds.insert(chance.randint(0, len(deeds)), ("raise", len(stair), chance.randint(1, 40)))
+    return stair, (levels, chambers), deeds
