@@ -1,4 +1,4 @@
-"""The words that stand in stands, deeds, faults and endings."""
+"""The words that stand in stands, deeds, faults, endings and trips."""
 
 LOW = "low"
 HIGH = "high"
@@ -10,4 +10,14 @@ LOWER = "lower"
 
 SHUT = "shut"
 DRY = "dry"
+LACK = "lack"
 FOR_EVER = "for ever"
+
+UP = "up"
+DOWN = "down"
+TURN = "turn"
+LOAD = "load"
+UNLOAD = "unload"
+CARRY = "carry"
+RAIN = "rain"
+DRAW = "draw"

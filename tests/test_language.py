@@ -17,6 +17,8 @@ BARRED_WORDS = re.compile(
     r"\b(type|typing|typing_extensions|enum|Enum|IntEnum|StrEnum|Flag|IntFlag|Generic|Protocol|ABC|ABCMeta|namedtuple"
     r"|NamedTuple|TypedDict|TYPE_CHECKING|abstractmethod)\b|dataclass|overload|contextmanager"
 )
+# Of those that L25 lists, the ones that are used.
+LISTED_METHODS = set("append bit_length count get items join pop split".split())
 # L7 lets these take a list only, once a class has an __eq__.
 TAKE_LISTS = ("any", "all", "min", "max", "sum", "sorted")
 
@@ -93,9 +95,52 @@ class LanguageTest(unittest.TestCase):
                      for alias in node.names]
             outer += [node.name for node in tree.body if isinstance(node, (ast.ClassDef, ast.FunctionDef))]
             self.assertEqual(len(outer), len(set(outer)), name)
-            for node in tree.body:
+            for node in ast.walk(tree):
                 if isinstance(node, ast.FunctionDef):
                     self.assertFalse(set(outer) & (names_bound(node) - {node.name}), f"{name}:{node.lineno}")
+
+    def test_no_name_is_a_method_and_an_attribute(self):
+        methods, given, read = set(), set(), set()
+        for where, node in nodes():
+            if isinstance(node, ast.ClassDef):
+                defined = [part.name for part in node.body if isinstance(part, ast.FunctionDef)]
+                self.assertEqual(len(defined), len(set(defined)), where)
+                methods.update(defined)
+            elif isinstance(node, ast.Attribute):
+                (read if isinstance(node.ctx, ast.Load) else given).add(node.attr)
+        self.assertFalse(methods & given)
+        self.assertFalse(given & set(dir(list) + dir(dict) + dir(str) + dir(int) + dir(set)))
+        self.assertLessEqual(read, methods | given | LISTED_METHODS)
+
+    def test_double_underscore_methods(self):
+        for where, node in nodes():
+            if isinstance(node, ast.FunctionDef) and node.name.startswith("_"):
+                self.assertIn(node.name, ("__init__", "__eq__"), where)
+                if node.name == "__eq__":
+                    self.assertEqual([part.__class__ for part in node.body], [ast.Return], where)
+                    self.assertFalse([part for part in ast.walk(node) if isinstance(part, ast.NamedExpr)], where)
+
+    def test_module_level_is_plain(self):
+        for name, text in sources().items():
+            for node in ast.parse(text).body:
+                where = f"{name}:{node.lineno}"
+                if isinstance(node, ast.Assign):
+                    self.assertIsInstance(node.value, ast.Constant, where)
+                else:
+                    self.assertIsInstance(node, (ast.Expr, ast.ImportFrom, ast.FunctionDef, ast.ClassDef), where)
+
+    def test_errors_are_made_where_they_are_raised_and_caught_by_name(self):
+        own = [node.name for where, node in nodes() if isinstance(node, ast.ClassDef) and where.startswith("errors")]
+        for where, node in nodes():
+            if isinstance(node, ast.Raise):
+                self.assertIn(node.exc.func.id, own, where)
+            if isinstance(node, ast.ExceptHandler):
+                caught = node.type.elts if isinstance(node.type, ast.Tuple) else [node.type]
+                self.assertLessEqual({part.id for part in caught}, set(own), where)
+            if isinstance(node, ast.Try):
+                for last in node.finalbody:
+                    self.assertIsInstance(last, ast.Expr, where)
+                    self.assertEqual(last.value.func.attr, "append", where)
 
     def test_iterated_at_once(self):
         for where, node in nodes():
