@@ -2,6 +2,7 @@
 
 import copy
 
+from liftwater.house import House
 from tests.plain import overrun, some_stair, some_stand
 
 NAMES = ("anna", "b", "cod", "up", "zzzzzzzz", "undo")
@@ -169,3 +170,18 @@ def bring_back(now, take, name, goal):
     more = goal[1] - now.boats[name][1]
     if more != 0:
         take(("load" if more > 0 else "unload", name, abs(more)))
+
+
+def far_house(chance):
+    """A House and a PlainHouse with great levels and heaps, and a tour of them."""
+    n = chance.randint(1, 6)
+    stair = tuple((chance.randint(0, 9), chance.randint(10 ** 17, 10 ** 20), chance.randint(1, 9)) for at in range(n))
+    levels = tuple(chance.choice([most, chance.randint(least, most)]) for least, most, size in stair)
+    heaps = tuple(chance.randint(10 ** 15, 10 ** 20) for at in range(n + 1))
+    boats = tuple((name, chance.randint(0, n)) for name in ("a", "b"))
+    parts = stair, (levels, tuple(chance.choice(["low", "high"]) for at in range(n))), heaps, boats
+    plain = PlainHouse(*parts)
+    tour = some_tour(chance, plain)
+    if chance.random() < 0.6:
+        tour.append(("rain", n, 100))
+    return House(*parts), plain, tour

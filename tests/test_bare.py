@@ -9,7 +9,7 @@ from liftwater.bare import bare_of, go, is_tour, tour_told
 from liftwater.deeds import gone, is_deed
 from liftwater.house import House
 from liftwater.rounds import fits, is_round
-from tests.boats import PlainHouse, answer_of, parts_of_house, shown, some_tour, some_trip
+from tests.boats import PlainHouse, answer_of, far_house, parts_of_house, shown, some_tour, some_trip
 from tests.things import as_lists
 
 FAR = 10 ** 20
@@ -40,21 +40,6 @@ def houses_and_plain(chance, turns, wides=(3, 10, 40), goods=20):
             if plain.do(trip)[0] == "ran":
                 house.do(trip)
         yield house, plain, some_tour(chance, plain)
-
-
-def far_house(chance):
-    """A House and a PlainHouse with great levels and heaps, and a tour of them."""
-    n = chance.randint(1, 6)
-    stair = tuple((chance.randint(0, 9), chance.randint(10 ** 17, FAR), chance.randint(1, 9)) for at in range(n))
-    levels = tuple(chance.choice([most, chance.randint(least, most)]) for least, most, size in stair)
-    heaps = tuple(chance.randint(10 ** 15, FAR) for at in range(n + 1))
-    boats = tuple((name, chance.randint(0, n)) for name in ("a", "b"))
-    parts = stair, (levels, tuple(chance.choice(["low", "high"]) for at in range(n))), heaps, boats
-    plain = PlainHouse(*parts)
-    tour = some_tour(chance, plain)
-    if chance.random() < 0.6:
-        tour.append(("rain", n, 100))
-    return House(*parts), plain, tour
 
 
 class BareOfTest(unittest.TestCase):
